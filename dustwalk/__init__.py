@@ -1,0 +1,1 @@
+"""Dustwalk: a machine that cleans a floor it has never seen."""
