@@ -4,6 +4,7 @@ SIDES = ("n", "e", "s", "w")
 DOCK = (0, 0)
 UNKNOWN = "?"
 MOVES = {"n": (-1, 0), "e": (0, 1), "s": (1, 0), "w": (0, -1)}
+OPPOSITE = {"n": "s", "e": "w", "s": "n", "w": "e"}
 
 
 def is_whole(thing):
@@ -32,9 +33,11 @@ def around(cell):
     return [cell] + [beside(cell, side) for side in SIDES]
 
 
+def is_open(ground):
+    """Whether a ground, or ?, is known to be no wall."""
+    return ground is not None and ground != UNKNOWN
+
+
 def can_step(one, other):
     """Whether one can step from the first ground to the second one beside it."""
-    for ground in (one, other):
-        if ground is None or ground == UNKNOWN:
-            return False
-    return other[1] <= one[1]
+    return is_open(one) and is_open(other) and other[1] <= one[1]

@@ -6,31 +6,9 @@ from dustwalk.cells import DOCK, SIDES, beside
 from dustwalk.charts import Chart, poured
 from dustwalk.errors import Clash
 from dustwalk.floors import Floor
+from helpers import HUGE, chart_of, five, subsets, told
 
-HUGE = 10 ** 59
 FELT = [(1, 0), (2, 1), None, (3, -1), None]
-
-
-def told(chart):
-    """All that a chart tells, also of cells round those that it knows."""
-    spots = set(itertools.product(range(-4, 5), repeat=2)) | set(chart.known()) | set(chart.stood())
-    grounds = [(spot, chart.ground(spot), chart.has_stood(spot)) for spot in sorted(spots)]
-    return (chart.known(), chart.open_cells(), chart.stood(), grounds)
-
-
-def chart_of(*notes):
-    chart = Chart()
-    for cell, felt in notes:
-        chart.note(cell, felt)
-    return chart
-
-
-def five(cell):
-    return [cell] + [beside(cell, side) for side in SIDES]
-
-
-def subsets(things):
-    return itertools.chain.from_iterable(itertools.combinations(things, size) for size in range(len(things) + 1))
 
 
 class TestCharts(unittest.TestCase):

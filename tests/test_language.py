@@ -39,6 +39,12 @@ WORDS = """
     namedtuple NamedTuple TypedDict TYPE_CHECKING abstractmethod
 """.split()
 
+KEYWORDS = {"sorted": ("key", "reverse"), "min": ("key", "default"), "max": ("key", "default"),
+            "sum": ("start",), "enumerate": ("start",), "zip": ("strict",)}
+
+WALKED = "zip enumerate reversed range".split()
+WALKERS = "list tuple dict sorted sum any all enumerate zip min max join".split()
+
 UNUSED = "register mro elements open input version_info with_traceback add_note format format_map".split()
 
 
@@ -83,7 +89,59 @@ def file_faults(text):
     for node in ast.walk(tree):
         faults.extend(node_faults(node))
     faults.extend(name_faults(tree))
+    faults.extend(shadow_faults(tree))
+    faults.extend(walk_faults(tree))
     return faults
+
+
+def shadow_faults(tree):
+    """L15: no parameter and no local is called like a class or an import of its file."""
+    taken = {node.name for node in ast.walk(tree) if isinstance(node, ast.ClassDef)}
+    taken |= {node.asname or node.name for node in ast.walk(tree) if isinstance(node, ast.alias)}
+    for node in ast.walk(tree):
+        if isinstance(node, ast.arg) and node.arg in taken:
+            yield f"L15 {node.arg}"
+        if isinstance(node, ast.Name) and isinstance(node.ctx, ast.Store) and node.id in taken:
+            yield f"L15 {node.id}"
+
+
+def called_name(node):
+    """The name by which something is called, where a node is a call."""
+    if not isinstance(node, ast.Call):
+        return None
+    return node.func.attr if isinstance(node.func, ast.Attribute) else getattr(node.func, "id", None)
+
+
+def walk_faults(tree):
+    """L22 to L24: Python's own are called, what is walked is walked at once, and no set is kept."""
+    fit = set()
+    for node in ast.walk(tree):
+        if isinstance(node, (ast.For, ast.comprehension)):
+            fit.add(node.iter)
+        if called_name(node) in WALKERS and node.args:
+            fit.add(node.args[0])
+        if isinstance(node, ast.Call):
+            fit.add(node.func)
+            if called_name(node) == "isinstance":
+                fit.update(ast.walk(node.args[1]))
+        if isinstance(node, ast.keyword) and node.arg == "key":
+            fit.add(node.value)
+        if isinstance(node, (ast.ExceptHandler, ast.ClassDef)):
+            for part in [node.type] if isinstance(node, ast.ExceptHandler) else node.bases:
+                fit.update(ast.walk(part))
+    for node in ast.walk(tree):
+        walked = called_name(node) in WALKED or (
+            called_name(node) in ("items", "keys", "values") and isinstance(node.func, ast.Attribute))
+        if walked and node not in fit:
+            yield "L23"
+        if isinstance(node, ast.Name) and node.id in OWN_NAMES and node not in fit:
+            yield f"L22 {node.id}"
+        if isinstance(node, ast.Attribute) and node.attr in METHODS and isinstance(node.ctx, ast.Load) \
+                and node not in fit and node.attr != "find":
+            yield f"L25 {node.attr}"
+        # A set has its few places, too; the program has no need of one.
+        if called_name(node) in ("set", "frozenset") or isinstance(node, ast.Set):
+            yield "L24"
 
 
 def name_faults(tree):
@@ -146,6 +204,13 @@ def node_faults(node):
     if isinstance(node, ast.ExceptHandler) and (
             node.type is None or "Exception" in ast.dump(node.type) or "TypeError" in ast.dump(node.type)):
         yield "L19"
+    if called_name(node) in OWN_NAMES + METHODS:
+        if any(word.arg not in KEYWORDS.get(called_name(node), ()) for word in node.keywords):
+            yield "L22"
+    if isinstance(node, ast.arg) and node.annotation or isinstance(node, ast.FunctionDef) and node.returns:
+        yield "L21"
+    if isinstance(node, ast.BinOp) and isinstance(node.op, ast.Pow) and not isinstance(node.right, ast.Constant):
+        yield "L27"
     if isinstance(node, ast.ImportFrom) and (node.level or not node.module.startswith("dustwalk.")):
         yield "L2"
 
@@ -201,7 +266,11 @@ class TestLanguage(unittest.TestCase):
             "def f(*a):\n    return a\n", "def f(list):\n    return list\n", "def f(x):\n    return x is 1\n",
             "def f(x):\n    return {y: y for y in x}\n", "def f(_x):\n    return 1\n", "# a type\n",
             "def f(x):\n    with x:\n        pass\n", "def f(x):\n    a = b = x\n    return a\n",
-            "class A:\n    x = 1\n", "x = '%'\n", "def f():\n" + "    pass\n" * 40, "x = '" + "a" * 120 + "'\n",
+            "def f(x):\n    y = zip(x, x)\n    return list(y)\n", "def f(x):\n    return reversed(range(x))\n",
+            "def f(x):\n    return x(len)\n", "def f(x):\n    return x.append\n", "def f(x):\n    return set(x)\n",
+            "from dustwalk.cells import DOCK\ndef f(DOCK):\n    return 1\n", "def f(x: int):\n    return x\n",
+            "def f(x):\n    return 2 ** x\n", "def f(x):\n    return len(obj=x)\n",
+            "def f(x):\n    return x.items()\n", "class A:\n    x = 1\n", "x = '%'\n", "def f():\n" + "    pass\n" * 40, "x = '" + "a" * 120 + "'\n",
         ):
             self.assertNotEqual(file_faults(text), [], text)
 
