@@ -4,7 +4,7 @@ import itertools
 
 from dustwalk.areas import Both, Box, Either, Everywhere, Outside
 from dustwalk.cells import DOCK, SIDES
-from dustwalk.charts import Chart
+from dustwalk.charts import Chart, poured
 from dustwalk.floors import Floor
 
 HUGE = 10 ** 59
@@ -151,6 +151,23 @@ def slow_sides_let(chart, area, place, left):
             if cell == place and end in costs and left - cost >= costs[end]]
 
 
+def in_rounds(chart, area, full):
+    """The cells to which and home from which ways lead that cost at most a store together."""
+    out, home = slow_outs(chart, area), slow_homes(chart, area)
+    return {cell for cell in out if cell in home and out[cell] + home[cell] <= full}
+
+
+def slow_closure(floor, machines, ahead=None):
+    """The last of the sets of [20], or of [26] for several machines, tuples (full, area), made round by round."""
+    cells, wider = set(), {DOCK}
+    while wider != cells:
+        cells = wider
+        chart = poured(Chart() if ahead is None else ahead, felt_on(floor, sorted(cells)))
+        wider = set().union(*[in_rounds(chart, area, full) for full, area in machines])
+        assert cells <= wider
+    return sorted(cells)
+
+
 class World:
     """A world that counts what it is asked, on a floor; a step that the floor does not have fails."""
 
@@ -180,6 +197,20 @@ class World:
         for side in self.steps():
             wanted += [side, "feel"]
         return self.asked == wanted
+
+
+class Turncoat(World):
+    """A world that from some feel on tells another cost of the cell where it stands."""
+
+    def __init__(self, floor, feels):
+        World.__init__(self, floor)
+        self.feels = feels
+
+    def feel(self):
+        felt = World.feel(self)
+        if self.asked.count("feel") > self.feels:
+            felt[0] = (felt[0][0] + 1, felt[0][1])
+        return felt
 
 
 def never():
