@@ -28,7 +28,8 @@ def next_side(machine):
 
 def walk_round(feel, step, machine, cell):
     """Go out to a cell, and home again by as many new cells as come up on the way."""
-    for side in out_way(machine.ways.grounds, machine.ways.outs, cell):
+    way = out_way(machine.ways.grounds, machine.ways.outs, cell)
+    for side in way:
         go(feel, step, machine, side)
     while machine.place != DOCK:
         go(feel, step, machine, next_side(machine))
